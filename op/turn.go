@@ -91,9 +91,10 @@ func turnDeletes(a, b api.Op) (api.Op, api.Op) {
 		b.At--
 	default:
 		// Both took the same byte: there is none left for either to take behind the other.
-		return nothing(a.Site), nothing(b.Site)
+		return Nothing(a.Site), Nothing(b.Site)
 	}
 	return a, b
 }
 
-func nothing(site int) api.Op { return api.Op{Kind: api.Nothing, Site: site} }
+// Nothing makes the op that does nothing.
+func Nothing(site int) api.Op { return api.Op{Kind: api.Nothing, Site: site} }
