@@ -89,6 +89,27 @@ func (k *talk) checkAll() {
 	for c := range k.clients {
 		k.check(c)
 	}
+	k.checkHistory()
+}
+
+// checkHistory holds each op that is told against the server's text ahead of it and behind it.
+func (k *talk) checkHistory() {
+	k.t.Helper()
+	told := 0
+	for o := range k.History() {
+		if told == len(k.from) {
+			k.t.Fatalf("P7: behind all %d ops History tells %+v", told, o)
+		}
+		text, e := moot.Apply(k.behind[told], o)
+		if e != api.OK || text != k.behind[told+1] || o.Site != k.from[told] {
+			k.t.Fatalf("P7, P8: op %d, of client %d, is told as %+v: it makes %q of %q, the server had %q",
+				told, k.from[told], o, text, k.behind[told], k.behind[told+1])
+		}
+		told++
+	}
+	if told != len(k.from) {
+		k.t.Fatalf("P7: %d ops are told, the server did %d", told, len(k.from))
+	}
 }
 
 // finish lets all come that is on its way.
@@ -108,6 +129,7 @@ func (k *talk) finish() {
 			k.t.Fatalf("P8: all came, client %d has %q, the server %q", c, text, server)
 		}
 	}
+	k.checkHistory()
 }
 
 // step does one of eight things, four for each of two clients.

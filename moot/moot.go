@@ -121,5 +121,14 @@ func (p *Moot) Look(client int) (api.Look, api.Errno) {
 
 // History tells what the server did (P7).
 func (p *Moot) History() func(yield func(o api.Op) bool) {
-	return func(yield func(o api.Op) bool) {}
+	return func(yield func(o api.Op) bool) {
+		if p == nil {
+			return
+		}
+		for o := range p.server.Done() {
+			if !yield(o) {
+				return
+			}
+		}
+	}
 }

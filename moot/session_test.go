@@ -76,10 +76,18 @@ func (s session) looks(client, up, down int, open ...api.Op) {
 	}
 }
 
+func (s session) did(want ...api.Op) {
+	s.t.Helper()
+	if l := slices.Collect(s.History()); !slices.Equal(l, want) {
+		s.t.Fatalf("P7: History tells %+v, want %+v", l, want)
+	}
+}
+
 // state: all that can be seen of a moot.
 type state struct {
-	texts [5]string
-	looks [4]api.Look
+	texts   [5]string
+	looks   [4]api.Look
+	history []api.Op
 }
 
 func (s session) state() state {
@@ -90,6 +98,7 @@ func (s session) state() state {
 	for i := range all.looks {
 		all.looks[i], _ = s.Look(i)
 	}
+	all.history = slices.Collect(s.History())
 	return all
 }
 
@@ -100,7 +109,7 @@ func (a state) same(b state) bool {
 			return false
 		}
 	}
-	return a.texts == b.texts
+	return a.texts == b.texts && slices.Equal(a.history, b.history)
 }
 
 // noClients: numbers that no client of so many has.
@@ -428,6 +437,7 @@ func TestNoMoot(t *testing.T) {
 			t.Errorf("P1: Look(%d): %d, want ErrArg", c, e)
 		}
 	}
+	s.did()
 }
 
 // scribble writes all over a list, its spare room too.
@@ -509,6 +519,7 @@ func TestMootsStandAlone(t *testing.T) {
 	a.ups(0)
 	a.downs(1)
 	b.texts("abc", "abc", "abc")
+	b.did()
 	b.looks(0, 0, 0)
 	b.looks(1, 0, 0)
 	b.answers("P5: Up", b.Up(0), api.ErrNone)
@@ -518,4 +529,6 @@ func TestMootsStandAlone(t *testing.T) {
 	a.texts("xabc", "xabc", "xabc")
 	a.looks(0, 0, 1, ins(0, 'x', 0))
 	a.looks(1, 0, 0)
+	a.did(ins(0, 'x', 0))
+	b.did(del(2, 1))
 }

@@ -1,13 +1,16 @@
 package side
 
 import (
+	"iter"
+
 	"moot/api"
 	"moot/op"
 )
 
-// A Server has a text, and a seat for each client.
+// A Server has a text, what it did to come to it, and a seat for each client.
 type Server struct {
 	text  string
+	done  []api.Op
 	seats []seat
 }
 
@@ -29,6 +32,18 @@ func NewServer(clients int, text string) *Server {
 // Text tells the server's text.
 func (s *Server) Text() string { return s.text }
 
+// Done tells, from the first one on, the ops that were done till the ranging begins.
+func (s *Server) Done() iter.Seq[api.Op] {
+	return func(yield func(o api.Op) bool) {
+		// The loop keeps to the list as it finds it here: what is done meanwhile stands behind the end of it.
+		for _, o := range s.done {
+			if !yield(o) {
+				return
+			}
+		}
+	}
+}
+
 // Waiting tells how many messages wait for a client.
 func (s *Server) Waiting(client int) int { return s.seats[client].Waiting() }
 
@@ -39,6 +54,7 @@ func (s *Server) Next(client int) (Message, bool) { return s.seats[client].Next(
 func (s *Server) Come(client int, m Message) {
 	o := s.seats[client].meet(m)
 	s.text = op.Do(s.text, o)
+	s.done = append(s.done, o)
 	for i := range s.seats {
 		s.seats[i].tell(client, o)
 	}

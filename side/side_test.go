@@ -1,6 +1,7 @@
 package side
 
 import (
+	"slices"
 	"testing"
 
 	"moot/api"
@@ -48,5 +49,25 @@ func TestMessages(t *testing.T) {
 		Message{op: insert(2, 2), sent: 2, came: 1})
 	if s.Text() != "xaxbcx" {
 		t.Errorf("P5: the server has %q", s.Text())
+	}
+}
+
+// What was done is told from when the ranging begins, not from when Done was called.
+func TestDone(t *testing.T) {
+	s := NewServer(2, "")
+	told := s.Done()
+	s.Come(1, Message{op: insert(0, 1)})
+	s.Come(0, Message{op: insert(0, 0)})
+	n := 0
+	for range told {
+		n++
+		s.Come(1, Message{op: insert(0, 1), sent: n, came: 1})
+	}
+	if n != 2 {
+		t.Errorf("P7: %d ops were told, want 2", n)
+	}
+	want := []api.Op{insert(0, 1), insert(0, 0), insert(1, 1), insert(1, 1)}
+	if l := slices.Collect(told); !slices.Equal(l, want) {
+		t.Errorf("P7: %+v were told, want %+v", l, want)
 	}
 }
